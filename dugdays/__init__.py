@@ -1,0 +1,1 @@
+"""Dugdays: a suitcase that is packed in layers."""

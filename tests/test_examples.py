@@ -1,0 +1,72 @@
+"""The examples of DOC.md, as they stand there."""
+
+import unittest
+
+from helpers import ERRORS
+from dugdays.errors import DigError
+
+STAGE_1 = """
+>>> from dugdays.menus import Menu
+>>> menu = Menu(["hat", "coat", "boots"], {"sun": (["hat"], "top", ["sun", "rain"]), "rain": (["boots", "coat"], "top", ["sun"])})
+>>> [menu.things, menu.weathers, menu.wishes("rain"), menu.later("rain"), menu.back("rain")]
+[('hat', 'coat', 'boots'), ('sun', 'rain'), ['boots', 'coat'], ['sun'], 'top']
+>>> menu.wishes("snow")
+raises BadWeather('snow')
+"""
+
+STAGE_2 = """
+>>> from dugdays.days import behind, dug, is_packing
+>>> [is_packing(menu, ["coat", "hat", "boots"]), is_packing(menu, ("coat", "hat", "boots")), is_packing(menu, ["coat"])]
+[True, False, False]
+>>> [dug(menu, ["hat", "coat", "boots"], "rain"), behind(menu, ["hat", "coat", "boots"], "rain"), dug(menu, ["coat", "boots", "hat"], "sun")]
+[3, ['coat', 'boots', 'hat'], 2]
+"""
+
+STAGE_3 = """
+>>> from dugdays.trips import digs, is_trip, left
+>>> [is_trip(menu, ["sun", "rain", "sun"]), is_trip(menu, ["rain"]), is_trip(menu, []), is_trip(menu, ["sun", "rain", "rain"])]
+[True, False, True, False]
+>>> [digs(menu, ["hat", "coat", "boots"], ["sun", "rain", "sun"]), left(menu, ["hat", "coat", "boots"], ["sun", "rain", "sun"])]
+[5, ['hat', 'coat', 'boots']]
+>>> digs(menu, ["hat", "coat", "boots"], ["sun", "rain", "rain"])
+raises BadTrip(2)
+"""
+
+
+def answer(row, names):
+    """What a row of an example answers, in the form that DOC.md writes."""
+    try:
+        return repr(eval(row, names))
+    except DigError as error:
+        name = error.__class__.__name__
+        return f"raises {name}({getattr(error, ERRORS[name])!r})"
+
+
+def answers(text, names):
+    """The rows of an example that are asked, each with what the text says and what it answers."""
+    lines = text.strip().split("\n")
+    found = []
+    for at, line in enumerate(lines):
+        if not line.startswith(">>> "):
+            continue
+        row = line[len(">>> "):]
+        if at + 1 < len(lines) and not lines[at + 1].startswith(">>> "):
+            found.append((row, lines[at + 1], answer(row, names)))
+        else:
+            exec(row, names)
+    return found
+
+
+class ExamplesTest(unittest.TestCase):
+    def test_the_examples_answer_what_the_document_says(self):
+        names = {}
+        asked = 0
+        for text in (STAGE_1, STAGE_2, STAGE_3):
+            for row, wanted, got in answers(text, names):
+                self.assertEqual(got, wanted, row)
+                asked += 1
+        self.assertEqual(asked, 7)
+
+
+if __name__ == "__main__":
+    unittest.main()
