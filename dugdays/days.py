@@ -16,22 +16,31 @@ def check_packing(menu, value):
         raise BadPacking(value)
 
 
-def dug(menu, packing, weather):
-    """Return the digs of a day with a weather."""
-    check_packing(menu, packing)
-    lying = list(packing)
+def digs_for(lying, wishes):
+    """Return the digs that take the wishes, one behind the other, out of a row of things."""
+    lying = list(lying)
     made = 0
-    for wish in menu.wishes(weather):
+    for wish in wishes:
         above = lying.index(wish)
         made += above
         lying.pop(above)
     return made
 
 
+def put_behind(lying, wishes, back):
+    """Return the list of how a row of things lies when the wishes have come back."""
+    if back == "place":
+        return list(lying)
+    return wishes[::-1] + [thing for thing in lying if thing not in wishes]
+
+
+def dug(menu, packing, weather):
+    """Return the digs of a day with a weather."""
+    check_packing(menu, packing)
+    return digs_for(packing, menu.wishes(weather))
+
+
 def behind(menu, packing, weather):
     """Return the packing that a day with a weather leaves."""
     check_packing(menu, packing)
-    if menu.back(weather) == "place":
-        return list(packing)
-    worn = menu.wishes(weather)
-    return worn[::-1] + [thing for thing in packing if thing not in worn]
+    return put_behind(packing, menu.wishes(weather), menu.back(weather))

@@ -56,6 +56,46 @@ def small_menus():
     ]
 
 
+def menus_of_all_shapes(count, things=5, weathers=4):
+    """Menus with up to so many things and weathers, the same ones at each run."""
+    seed = 0
+
+    def below(number):
+        nonlocal seed
+        seed = (seed * 1103515245 + 12345) % 2 ** 31
+        return (seed >> 12) % number
+
+    def some(names, least):
+        rest, row = list(names), []
+        for _ in range(least + below(len(names) + 1 - least)):
+            row.append(rest.pop(below(len(rest))))
+        return row
+
+    menus = []
+    for _ in range(count):
+        lying = some("ebdac"[:things], 1)
+        names = some("wzyx"[:weathers], 1)
+        menus.append(Menu(lying, {
+            name: (some(lying, 0), ("top", "place", "top")[below(3)], some(names, 1)) for name in names
+        }))
+    return menus
+
+
+def big_menus():
+    """Menus with 5 things and 4 weathers, each of which can follow each."""
+    things, names = ["e", "b", "d", "a", "c"], ["w", "x", "y", "z"]
+    wishes = [
+        [["a"], ["b"], ["c"], ["d"]],
+        [["a", "b"], ["c", "e"], ["d", "a"], ["b"]],
+        [["e", "d", "c", "b", "a"], ["b", "d"], ["a", "c"], []],
+        [[], ["e"], ["c", "d", "b"], ["a", "e"]],
+    ]
+    return [
+        Menu(things, {name: (row, word, names[at:] + names[:at]) for at, (name, row) in enumerate(zip(names, rows))})
+        for rows in wishes for word in ("top", "place")
+    ]
+
+
 def row_menus():
     """One menu for each row of wishes among four things and each word."""
     things = ["a", "b", "c", "d"]
@@ -91,6 +131,17 @@ def any_values():
     ]
 
 
+def no_packings():
+    """Values that are no packing of the example's menu."""
+    return any_values() + [
+        ["coat"], ["hat", "coat"], ["hat", "coat", "hat"], ["hat", "coat", "boots", "hat"], ["hat", "coat", "snow"],
+        ["hat", "coat", "boots", "bag"], ["hat", "coat", "Boots"], ["hat", "coat", None], ["hat", "coat", True],
+        ["hat", "coat", ["boots"]], ["hat", "coat", ("boots",)], ["hat", "coat", {}], ["hat", "coat", doc_menu()],
+        ["hat", "coat", 2], [["hat", "coat", "boots"]], ["hat", "hat", "hat"], ["hat"] * 100000,
+        ("hat", "coat", "boots"), {"hat": 0, "coat": 1, "boots": 2}, "hat coat boots", doc_menu().things,
+    ]
+
+
 def told(menu):
     """All that a menu tells, as plain values."""
     names = menu.weathers
@@ -122,6 +173,53 @@ def first_wrong(menu, row):
         if not fits:
             return position
     return None
+
+
+def plain_trip(menu, packing, trip):
+    """The digs of a trip and the packing behind it, day by day."""
+    made = 0
+    for weather in trip:
+        more, packing = plain_day(menu, packing, weather)
+        made += more
+    return made, list(packing)
+
+
+def trips_of(menu, days):
+    """All trips of so many days."""
+    trips = [[]]
+    for day in range(days):
+        trips = [
+            trip + [weather] for trip in trips for weather in (menu.later(trip[-1]) if day else [menu.weathers[0]])
+        ]
+    return trips
+
+
+def lives(menu, *rows):
+    """The first (packings, weather of the day), and for each that can be: its digs, and those that can follow it."""
+    first = (tuple([tuple(packing) for packing in rows]), menu.weathers[0])
+    table, waiting = {}, [first]
+    while waiting:
+        at = waiting.pop()
+        if at in table:
+            continue
+        lived = [plain_day(menu, list(packing), at[1]) for packing in at[0]]
+        behind = tuple([tuple(lying) for _, lying in lived])
+        table[at] = [made for made, _ in lived], [(behind, weather) for weather in menu.later(at[1])]
+        waiting.extend(table[at][1])
+    return first, table
+
+
+def best_by_days(first, table, days, gain, best):
+    """For 0, 1 and more days up to so many: the best gain of the trips ahead of each (packings, weather)."""
+    rows = [{first: 0}]
+    for _ in range(days):
+        row = {}
+        for at, had in rows[-1].items():
+            made, after = table[at]
+            for state in after:
+                row[state] = best(row.get(state, had + gain(made)), had + gain(made))
+        rows.append(row)
+    return rows
 
 
 def raised(call, *args, **more):

@@ -6,18 +6,9 @@ from itertools import product
 
 from dugdays.days import behind, dug, is_packing
 from dugdays.menus import Menu
-from helpers import any_values, doc_menu, packings, place_menu, plain_day, raised, row_menus, small_menus, told
-
-
-def no_packings():
-    """Values that are no packing of the example's menu."""
-    return any_values() + [
-        ["coat"], ["hat", "coat"], ["hat", "coat", "hat"], ["hat", "coat", "boots", "hat"], ["hat", "coat", "snow"],
-        ["hat", "coat", "boots", "bag"], ["hat", "coat", "Boots"], ["hat", "coat", None], ["hat", "coat", True],
-        ["hat", "coat", ["boots"]], ["hat", "coat", ("boots",)], ["hat", "coat", {}], ["hat", "coat", doc_menu()],
-        ["hat", "coat", 2], [["hat", "coat", "boots"]], ["hat", "hat", "hat"], ["hat"] * 100000,
-        ("hat", "coat", "boots"), {"hat": 0, "coat": 1, "boots": 2}, "hat coat boots", doc_menu().things,
-    ]
+from helpers import (
+    any_values, doc_menu, no_packings, packings, place_menu, plain_day, raised, row_menus, small_menus, told,
+)
 
 
 class PackingTest(unittest.TestCase):

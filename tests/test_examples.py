@@ -32,6 +32,38 @@ STAGE_3 = """
 raises BadTrip(2)
 """
 
+STAGE_4 = """
+>>> from dugdays.spans import few_digs, few_trip, most_digs, most_trip
+>>> [most_digs(menu, ["hat", "coat", "boots"], 3), few_digs(menu, ["hat", "coat", "boots"], 3), most_digs(menu, ["hat", "coat", "boots"], 0)]
+[5, 0, 0]
+>>> [most_trip(menu, ["hat", "coat", "boots"], 3), few_trip(menu, ["hat", "coat", "boots"], 3)]
+[['sun', 'rain', 'sun'], ['sun', 'sun', 'sun']]
+"""
+
+STAGE_5 = """
+>>> from dugdays.packings import best_packings, least_most
+>>> [least_most(menu, 1), best_packings(menu, 1), least_most(menu, 2), best_packings(menu, 2)]
+[0, [['hat', 'coat', 'boots'], ['hat', 'boots', 'coat']], 2, [['hat', 'boots', 'coat']]]
+"""
+
+STAGE_6 = """
+>>> from dugdays.endless import mean_digs, mean_ring
+>>> [mean_digs(menu, ["hat", "coat", "boots"]), len(mean_ring(menu, ["hat", "coat", "boots"]))]
+[(5, 2), 2]
+>>> mean_digs(Menu(["hat", "coat"], {"dry": (["hat"], "place", ["dry"])}), ["coat", "hat"])
+(1, 1)
+"""
+
+STAGE_7 = """
+>>> from dugdays.beside import gap_ever, gap_in
+>>> [gap_in(menu, ["coat", "boots", "hat"], ["hat", "coat", "boots"], 1), gap_in(menu, ["hat", "coat", "boots"], ["coat", "boots", "hat"], 1)]
+[2, -2]
+>>> [gap_ever(menu, ["hat", "coat", "boots"], ["hat", "coat", "boots"]), gap_ever(menu, ["coat", "boots", "hat"], ["hat", "coat", "boots"])]
+[0, 2]
+>>> gap_ever(Menu(["hat", "coat"], {"dry": (["hat"], "place", ["dry"])}), ["coat", "hat"], ["hat", "coat"]) is None
+True
+"""
+
 
 def answer(row, names):
     """What a row of an example answers, in the form that DOC.md writes."""
@@ -61,11 +93,11 @@ class ExamplesTest(unittest.TestCase):
     def test_the_examples_answer_what_the_document_says(self):
         names = {}
         asked = 0
-        for text in (STAGE_1, STAGE_2, STAGE_3):
+        for text in (STAGE_1, STAGE_2, STAGE_3, STAGE_4, STAGE_5, STAGE_6, STAGE_7):
             for row, wanted, got in answers(text, names):
                 self.assertEqual(got, wanted, row)
                 asked += 1
-        self.assertEqual(asked, 7)
+        self.assertEqual(asked, 15)
 
 
 if __name__ == "__main__":

@@ -6,20 +6,12 @@ import unittest
 from dugdays.menus import Menu
 from dugdays.trips import digs, is_trip, left
 from helpers import (
-    any_values, doc_menu, first_wrong, packings, place_menu, plain_day, raised, rows_of_days, small_menus, told,
+    any_values, doc_menu, first_wrong, packings, place_menu, plain_trip, raised, rows_of_days, small_menus, told,
 )
 
 
 def rows(menu):
     return [row for days in range(5) for row in rows_of_days(menu, days)]
-
-
-def plain_trip(menu, packing, trip):
-    made = 0
-    for weather in trip:
-        more, packing = plain_day(menu, packing, weather)
-        made += more
-    return made, list(packing)
 
 
 class IsTripTest(unittest.TestCase):
