@@ -8,7 +8,7 @@ def gap_in(menu, first, second, days):
     """Return the greatest number by which a trip of so many days digs more with the first packing."""
     check_packing(menu, first)
     check_packing(menu, second)
-    return best_gains(ways_from(menu, [[first, second]]), days, 1)[days][0]
+    return best_gains(ways_from(menu, [[first, second]]), days, 1)[-1][0]
 
 
 def gap_ever(menu, first, second):

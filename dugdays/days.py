@@ -34,6 +34,12 @@ def put_behind(lying, wishes, back):
     return wishes[::-1] + [thing for thing in lying if thing not in wishes]
 
 
+def live_day(menu, lying, weather):
+    """Return the digs of a day with a weather and the tuple of how a row of things lies behind it."""
+    wishes = menu.wishes(weather)
+    return digs_for(lying, wishes), tuple(put_behind(lying, wishes, menu.back(weather)))
+
+
 def dug(menu, packing, weather):
     """Return the digs of a day with a weather."""
     check_packing(menu, packing)

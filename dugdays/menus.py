@@ -16,17 +16,25 @@ def is_name(value):
     return all([letter in LETTERS for letter in value])
 
 
+def is_count(value):
+    """Return whether any value is an integer from 0 on."""
+    return isinstance(value, int) and not isinstance(value, bool) and value >= 0
+
+
 def are_different(names):
     """Return whether no name of a row stands there twice."""
     return len(set(names)) == len(names)
 
 
+def are_names(row):
+    """Return whether the entries of a row, any values, are one or more different names."""
+    # Names are strings, so only behind this check can the entries be members of a set.
+    return len(row) > 0 and all([is_name(entry) for entry in row]) and are_different(row)
+
+
 def are_things(value):
     """Return whether any value can be the things of a menu."""
-    if not isinstance(value, (list, tuple)) or not 1 <= len(value) <= MOST_THINGS:
-        return False
-    # Names are strings, so only behind this check can the entries be members of a set.
-    return all([is_name(entry) for entry in value]) and are_different(value)
+    return isinstance(value, (list, tuple)) and len(value) <= MOST_THINGS and are_names(value)
 
 
 def is_row_of(value, names):

@@ -14,7 +14,7 @@ def all_packings(menu):
 def most_of_each(menu, packings, days):
     """Return a list of what the trips of so many days dig at most with each of the packings."""
     ways = ways_from(menu, [[packing] for packing in packings])
-    return best_gains(ways, days, 1)[days][:len(packings)]
+    return best_gains(ways, days, 1)[-1][:len(packings)]
 
 
 def least_most(menu, days):

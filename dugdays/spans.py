@@ -7,7 +7,7 @@ from dugdays.walks import best_gains, ways_from
 def best_digs(menu, packing, days, sign):
     """Return the greatest digs, each times the sign, of the trips of so many days."""
     check_packing(menu, packing)
-    return best_gains(ways_from(menu, [[packing]]), days, sign)[days][0]
+    return best_gains(ways_from(menu, [[packing]]), days, sign)[-1][0]
 
 
 def best_trip(menu, packing, days, sign):

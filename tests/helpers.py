@@ -4,6 +4,7 @@ from itertools import permutations, product
 
 from dugdays import errors
 from dugdays.menus import Menu
+from dugdays.suitcases import Suitcase
 
 ERRORS = {
     "BadThings": "value",
@@ -128,6 +129,7 @@ def any_values():
         {}, {"hat": 1}, {1: "hat"}, {(1, 2): [{}]}, {None: {"a": ()}},
         doc_menu(), [doc_menu()], (doc_menu(), place_menu()), {"a": doc_menu()},
         errors.BadTrip(2), [errors.BadWeather("snow")],
+        Suitcase(doc_menu(), ["hat", "coat", "boots"]), [Suitcase(place_menu(), ["d", "c", "b", "a"])],
     ]
 
 
@@ -192,6 +194,28 @@ def trips_of(menu, days):
             trip + [weather] for trip in trips for weather in (menu.later(trip[-1]) if day else [menu.weathers[0]])
         ]
     return trips
+
+
+def lying_choices(menu, packing, weather):
+    """All packings that [6] lets be chosen in the evening of a day."""
+    if menu.back(weather) == "place":
+        return [list(packing)]
+    wishes = menu.wishes(weather)
+    rest = [thing for thing in packing if thing not in wishes]
+    return [list(row) + rest for row in permutations(wishes)]
+
+
+def plain_kept(menu, packing, possible, days):
+    """What [6] lets be kept to in so many days that begin with one of the weathers: each choice of each evening."""
+    if days == 0:
+        return 0
+    worst = []
+    for weather in possible:
+        behind = [
+            plain_kept(menu, lying, menu.later(weather), days - 1) for lying in lying_choices(menu, packing, weather)
+        ]
+        worst.append(plain_day(menu, packing, weather)[0] + min(behind))
+    return max(worst)
 
 
 def lives(menu, *rows):

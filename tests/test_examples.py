@@ -64,6 +64,39 @@ STAGE_7 = """
 True
 """
 
+STAGE_8 = """
+>>> from dugdays.choices import kept_to, put_back
+>>> [kept_to(menu, ["hat", "coat", "boots"], 3), kept_to(menu, ["hat", "coat", "boots"], 0), sorted(put_back(menu, ["hat", "coat", "boots"], "sun", 0))]
+[5, 0, ['boots', 'coat', 'hat']]
+"""
+
+STAGE_9 = """
+>>> from dugdays.clues import fitting, lies
+>>> [fitting(menu, [("sun", 2)]), lies(menu, [("sun", 2)]), fitting(menu, [("sun", 7)]), lies(menu, [("sun", 7)])]
+[[['coat', 'boots', 'hat'], ['boots', 'coat', 'hat']], [('hat', 0)], [], None]
+"""
+
+STAGE_10 = """
+>>> from dugdays.suitcases import Suitcase
+>>> case = Suitcase(menu, ["hat", "coat", "boots"])
+>>> [case.live("sun"), case.live("rain"), case.packing, case.days, case.total, case.swap(0), case.packing, case.undo(2), case.packing]
+[0, 3, ['coat', 'boots', 'hat'], 2, 3, None, ['boots', 'coat', 'hat'], None, ['hat', 'coat', 'boots']]
+"""
+
+STAGE_11 = r"""
+>>> from dugdays.texts import menu_text, read_menu
+>>> menu_text(menu)
+'things hat coat boots\nsun top : hat > sun rain\nrain top : boots coat > sun'
+>>> [read_menu(menu_text(menu)) == menu, read_menu("things a\nx place : > x").wishes("x")]
+[True, []]
+>>> read_menu("things a\nx top : b > x")
+raises BadText(2)
+"""
+
+STAGES = (
+    STAGE_1, STAGE_2, STAGE_3, STAGE_4, STAGE_5, STAGE_6, STAGE_7, STAGE_8, STAGE_9, STAGE_10, STAGE_11,
+)
+
 
 def answer(row, names):
     """What a row of an example answers, in the form that DOC.md writes."""
@@ -93,11 +126,11 @@ class ExamplesTest(unittest.TestCase):
     def test_the_examples_answer_what_the_document_says(self):
         names = {}
         asked = 0
-        for text in (STAGE_1, STAGE_2, STAGE_3, STAGE_4, STAGE_5, STAGE_6, STAGE_7):
+        for text in STAGES:
             for row, wanted, got in answers(text, names):
                 self.assertEqual(got, wanted, row)
                 asked += 1
-        self.assertEqual(asked, 15)
+        self.assertEqual(asked, 21)
 
 
 if __name__ == "__main__":
